@@ -1,0 +1,1 @@
+"""Benchends: works whose ends came in a told order."""
