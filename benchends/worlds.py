@@ -1,10 +1,11 @@
 """What the modules share about worlds, orders and events."""
 
-from benchends.errors import NoOrder, NoWorld
+from benchends.errors import NoLengths, NoOrder, NoWorld
 
 MOST_BENCHES = 4
 MOST_WORKS = 10
 MOST_LENGTH = 99
+MOST_NUMBER = 9999
 
 
 def is_whole_within(thing, least, most):
@@ -58,6 +59,22 @@ def check_order(world, order):
         raise NoOrder("an order is a tuple of unlike works, each of which began ahead of its end")
 
 
+def are_lengths(world, thing):
+    if not isinstance(thing, tuple) or len(thing) != how_many_works(world):
+        return False
+    return all([is_whole_within(part, bounds[0], bounds[1]) for part, bounds in zip(thing, world[1])])
+
+
+def check_lengths(world, lengths):
+    check_world(world)
+    if not are_lengths(world, lengths):
+        raise NoLengths("lengths are a tuple of a length within its bounds for each work")
+
+
+def how_many_benches(world):
+    return world[0]
+
+
 def how_many_works(world):
     return len(world[1])
 
@@ -71,7 +88,7 @@ def greatest_length(world, work):
 
 
 def how_many_began(world, ends):
-    return min(world[0] + ends, how_many_works(world))
+    return min(how_many_benches(world) + ends, how_many_works(world))
 
 
 def running(world, order):
@@ -79,4 +96,4 @@ def running(world, order):
 
 
 def begin_event(world, work):
-    return max(0, work - world[0] + 1)
+    return max(0, work - how_many_benches(world) + 1)

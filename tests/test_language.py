@@ -113,6 +113,16 @@ class NamesTest(unittest.TestCase):
                 if isinstance(node, ast.Name) and isinstance(node.ctx, ast.Load):
                     self.assertIn(node.id, known, name)
 
+    def test_no_parameter_or_local_is_called_like_a_class_or_an_import_of_its_file(self):
+        for name, tree in trees():
+            taken = [node.name for node in tree.body if isinstance(node, ast.ClassDef)]
+            for node in tree.body:
+                if isinstance(node, ast.ImportFrom):
+                    taken += [alias.name for alias in node.names]
+            for node in ast.walk(tree):
+                if isinstance(node, ast.FunctionDef):
+                    self.assertEqual(set(bound_names(node)) & set(taken), set(), (name, node.name))
+
     def test_methods_are_let_by_or_own(self):
         own = {node.name for name, node in nodes() if isinstance(node, ast.FunctionDef)}
         for name, node in nodes():
@@ -176,6 +186,24 @@ class FormsTest(unittest.TestCase):
             if isinstance(node, ast.ListComp):
                 self.assertEqual(len(node.generators), 1, (name, node.lineno))
                 self.assertLessEqual(len(node.generators[0].ifs), 1, (name, node.lineno))
+
+    def test_what_is_walked_at_once_is_not_kept(self):
+        walked = ("range", "zip", "enumerate", "reversed")
+        takers = ("list", "tuple", "dict", "sorted", "sum", "any", "all", "enumerate", "zip", "min", "max")
+        on_the_spot = set()
+        for name, node in nodes():
+            if isinstance(node, (ast.For, ast.comprehension)):
+                on_the_spot.add(ast.dump(node.iter))
+            if isinstance(node, ast.Call) and isinstance(node.func, ast.Name) and node.func.id in takers and node.args:
+                on_the_spot.add(ast.dump(node.args[0]))
+        for name, node in nodes():
+            if isinstance(node, ast.Call) and isinstance(node.func, ast.Name) and node.func.id in walked:
+                self.assertIn(ast.dump(node), on_the_spot, (name, node.lineno))
+
+    def test_texts_hold_no_sign_for_parts(self):
+        for name, node in nodes():
+            if isinstance(node, ast.Constant) and isinstance(node.value, str):
+                self.assertNotIn("%", node.value, (name, node.lineno))
 
     def test_is_stands_beside_none_true_and_false_alone(self):
         for name, node in nodes():

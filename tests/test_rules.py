@@ -3,8 +3,9 @@
 import unittest
 
 from benchends.rules import rules
+from helper import WORLD as TWO_BENCHES
+from helper import orders_by_playing
 
-TWO_BENCHES = (2, ((3, 5), (4, 4), (1, 9), (2, 6)))
 ONE_BENCH = (1, ((1, 2), (3, 4), (5, 99)))
 FOUR_BENCHES = (4, tuple((work + 1, work + 11) for work in range(10)))
 
@@ -23,18 +24,6 @@ def rules_by_playing(world, order):
         if row:
             begins[row.pop(0)] = event
     return told + [(len(order), begins[work], world[1][work][1]) for work in sorted(set(begins) - set(order))]
-
-
-def orders_by_playing(benches, works):
-    """All orders of no work, of some, and of all, found end by end."""
-    found = []
-    waiting = [()]
-    while waiting:
-        order = waiting.pop()
-        found.append(order)
-        began = range(min(works, benches + len(order)))
-        waiting += [order + (work,) for work in began if work not in order]
-    return found
 
 
 class RulesToTheLetterTest(unittest.TestCase):

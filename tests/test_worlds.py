@@ -6,8 +6,7 @@ import unittest
 
 from benchends.errors import NoOrder, NoWorld
 from benchends.rules import rules
-
-ONE_WORK = ((1, 1),)
+from helper import NO_ORDERS, NO_WORLDS, ONE_WORK, THINGS_OF_OTHER_KINDS, WORLD
 
 GOOD_WORLDS = [
     (1, ONE_WORK),
@@ -20,24 +19,6 @@ GOOD_WORLDS = [
     (3, ((7, 8), (7, 7), (1, 9), (2, 6), (5, 5))),
 ]
 
-THINGS_OF_OTHER_KINDS = [
-    None, True, False, 0, 1, 2, -1, 10 ** 400, "", "ab", "2: 1", b"ab", [], {}, set(), frozenset([1, 2]),
-    range(2), object(), int, len, NotImplemented, Ellipsis,
-]
-
-NO_WORLDS = THINGS_OF_OTHER_KINDS + [
-    # too few parts, too many, the wrong one first, and what only looks like a pair
-    (), (2,), (ONE_WORK,), (2, ONE_WORK, 0), (2, ONE_WORK, ONE_WORK), (ONE_WORK, 2), (2, 1, 1),
-    [2, ONE_WORK], {0: 2, 1: ONE_WORK}, ((2, ONE_WORK),),
-    # benches beyond the edges, and what is no whole number
-    (0, ONE_WORK), (5, ONE_WORK), (-1, ONE_WORK), (-2, ONE_WORK), (10 ** 400, ONE_WORK),
-    (True, ONE_WORK), (False, ONE_WORK), ("2", ONE_WORK), (None, ONE_WORK), ((2,), ONE_WORK), ([2], ONE_WORK),
-    # too few works, and too many
-    (2, ()), (2, ONE_WORK * 11), (2, ONE_WORK * 1000),
-    # what is no tuple of works
-    (2, [(1, 1)]), (2, {0: (1, 1)}), (2, "ab"), (2, None), (2, 5), (2, True), (2, (1, 1)), (2, range(1, 3)),
-]
-
 NO_BOUNDS_OF_WORK = THINGS_OF_OTHER_KINDS + [
     # too few parts, too many, and what only looks like a pair
     (), (1,), (1, 1, 1), ((1, 1),), [1, 1], {0: 1, 1: 1}, "11", b"11",
@@ -48,28 +29,9 @@ NO_BOUNDS_OF_WORK = THINGS_OF_OTHER_KINDS + [
     (None, 1), (1, None), (None, None), ((1,), 2), (1, (2,)), ([1], 2), (1, [2]), ({}, 2), (1, {}),
 ]
 
-WORLD = (2, ((3, 5), (4, 4), (1, 9), (2, 6)))
-
 GOOD_ORDERS = [
     (), (0,), (1,), (0, 1), (1, 0), (0, 2), (1, 2), (0, 1, 2), (1, 2, 0), (0, 2, 3),
     (0, 1, 2, 3), (1, 0, 2, 3), (1, 2, 3, 0), (0, 1, 3, 2),
-]
-
-NO_ORDERS = THINGS_OF_OTHER_KINDS + [
-    # what holds works, but in no tuple
-    [0], [0, 1], {0: True}, {0}, frozenset([0]), range(1), "0", "01",
-    # a work twice
-    (0, 0), (1, 1), (0, 1, 0), (0, 1, 1), (0, 2, 0), (0, 1, 2, 2), (0, 1, 2, 3, 3), (0, 1, 2, 3, 0), (0,) * 1000,
-    # a work ahead of its begin
-    (2,), (3,), (0, 3), (1, 3), (2, 0), (3, 0), (0, 3, 1), (2, 1, 0), (3, 2, 1, 0),
-    # a number that is no work
-    (4,), (0, 4), (0, 1, 4), (0, 1, 2, 4), (0, 1, 2, 3, 4), (-1,), (0, -1), (-2, 0), (99,), (10 ** 400,), (-10 ** 400,),
-    # True and False
-    (True,), (False,), (False, True), (0, True), (True, 0), (1, False), (0, 1, True), (0, 2, True),
-    # things of other kinds within the tuple
-    ("0",), ("",), (None,), ((),), ((0,),), ([],), ([0],), ({},), (set(),), (b"0",), (object(),), (int,),
-    (0, "1"), (0, None), (0, (1,)), (0, [1]), (0, {}), (0, 1, 2, "3"), (0, 1, 2, [3]), (None, 0), ([0], 0),
-    (0, 1, 2, 3, None), (0, 1, 2, 3, []),
 ]
 
 
