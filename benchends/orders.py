@@ -30,20 +30,21 @@ def all_orders(world):
     return found
 
 
-# For each work, by its number, a tuple of the bench that takes it up, and of the moment at which it ends.
+# For each work, by its number, a tuple of the bench that takes it up, and of the moments of its begin and of its end.
 def taken_up(world, lengths):
     free_from = [0] * how_many_benches(world)
     told = []
     for length in lengths:
         bench = free_from.index(min(free_from))
-        free_from[bench] = free_from[bench] + length
-        told.append((bench, free_from[bench]))
+        begin = free_from[bench]
+        free_from[bench] = begin + length
+        told.append((bench, begin, begin + length))
     return told
 
 
 def played(world, lengths):
     check_lengths(world, lengths)
-    ends = sorted([(part[1], work) for work, part in enumerate(taken_up(world, lengths))])
+    ends = sorted([(part[2], work) for work, part in enumerate(taken_up(world, lengths))])
     return (tuple([work for moment, work in ends]), [moment for moment, work in ends])
 
 

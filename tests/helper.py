@@ -70,6 +70,16 @@ NO_ORDERS = THINGS_OF_OTHER_KINDS + [
     (0, 1, 2, 3, None), (0, 1, 2, 3, []),
 ] + [(thing,) for thing in ODD_THINGS] + [(0, thing) for thing in ODD_THINGS]
 
+# For WORLD.
+NO_LENGTHS = THINGS_OF_OTHER_KINDS + [
+    # too few, too many, and beyond the bounds by 1
+    (), (3,), (3, 4, 5), (4, 5, 6), (3, 4, 5, 6, 6), (3, 4, 5, 6, None),
+    (2, 4, 5, 6), (6, 4, 5, 6), (3, 3, 5, 6), (3, 5, 5, 6), (3, 4, 0, 6), (3, 4, 10, 6), (3, 4, 5, 1), (3, 4, 5, 7),
+    # no tuple, and what is no length within it
+    [3, 4, 5, 6], {3: 1, 4: 1, 5: 1, 6: 1}, {3, 4, 5, 6}, "3456", range(3, 7), ((3, 4, 5, 6),),
+    (True, 4, 5, 6), (3, 4, 5, False),
+] + [(3, 4, thing, 6) for thing in NO_NUMBERS + ["5", (5,), [5], -5, 10 ** 400]]
+
 
 def orders_by_playing(benches, works):
     """All orders of no work, of some, and of all, found end by end, whether they can have been or not."""
@@ -103,6 +113,22 @@ def play(benches, lengths):
         if ended:
             ends.append((moment, ended))
     return ends, done
+
+
+def timeline(benches, lengths, row):
+    """Works taken up in a row, moment by moment: for each moment till the last end a tuple of what each bench does."""
+    row = list(row)
+    at_work = [None] * benches
+    left = [0] * benches
+    told = []
+    while row or any(left):
+        for bench in range(benches):
+            if not left[bench]:
+                at_work[bench] = row.pop(0) if row else None
+                left[bench] = 0 if at_work[bench] is None else lengths[at_work[bench]]
+        told.append(tuple(at_work))
+        left = [max(0, many - 1) for many in left]
+    return told
 
 
 def tellings(ends):

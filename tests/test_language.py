@@ -175,6 +175,20 @@ class FormsTest(unittest.TestCase):
             if isinstance(node, ast.arguments):
                 self.assertEqual((node.vararg, node.kwarg, node.kwonlyargs, node.posonlyargs), (None, None, [], []))
 
+    def test_classes_hold_methods_alone_and_no_value_is_called_like_one(self):
+        methods = set()
+        values = set()
+        for name, node in nodes():
+            if isinstance(node, ast.ClassDef):
+                kinds = (ast.FunctionDef, ast.Pass)
+                self.assertEqual([part for part in node.body if not isinstance(part, kinds)], [], (name, node.name))
+                names = [part.name for part in node.body if isinstance(part, ast.FunctionDef)]
+                self.assertEqual(len(set(names)), len(names), (name, node.name))
+                methods.update(names)
+            if isinstance(node, ast.Attribute) and isinstance(node.ctx, ast.Store):
+                values.add(node.attr)
+        self.assertEqual(methods & values, set())
+
     def test_statements_are_plain(self):
         for name, node in nodes():
             if isinstance(node, ast.Assign):

@@ -4,11 +4,12 @@ import copy
 import inspect
 import unittest
 
-from benchends import bounds, could, orders, rules
-from benchends.errors import Never, NoOrder, NoWorld
-from helper import NO_ORDERS, NO_WORLDS, WORLD
+from benchends import benching, bounds, could, orders, rowing, rules
+from benchends.errors import Never, NoLengths, NoOrder, NoWorld
+from helper import NO_LENGTHS, NO_ORDERS, NO_WORLDS, WORLD
 
 ORDER = (1, 2, 0)
+LENGTHS = (3, 4, 5, 6)
 
 # The interface: each function with its arguments, by their names, such that it answers.
 INTERFACE = [
@@ -30,11 +31,23 @@ INTERFACE = [
     (bounds.shown, {"world": WORLD, "order": ORDER, "work": 0, "side": "least"}),
     (orders.may_end, {"world": WORLD, "order": (1,)}),
     (orders.all_orders, {"world": WORLD}),
-    (orders.played, {"world": WORLD, "lengths": (3, 4, 5, 6)}),
-    (orders.benches, {"world": WORLD, "lengths": (3, 4, 5, 6)}),
+    (orders.played, {"world": WORLD, "lengths": LENGTHS}),
+    (orders.benches, {"world": WORLD, "lengths": LENGTHS}),
+    (rowing.finish, {"world": WORLD, "lengths": LENGTHS}),
+    (rowing.begin_moments, {"world": WORLD, "lengths": LENGTHS}),
+    (rowing.short_ones_first, {"world": WORLD, "lengths": LENGTHS}),
+    (rowing.best_row, {"world": WORLD, "lengths": LENGTHS}),
+    (rowing.finish_in, {"world": WORLD, "lengths": LENGTHS, "row": (3, 2, 1, 0)}),
+    (rowing.waits_in, {"world": WORLD, "lengths": LENGTHS, "row": (3, 2, 1, 0)}),
+    (benching.with_benches, {"world": WORLD, "many": 3}),
+    (benching.fewest_benches, {"world": WORLD, "lengths": LENGTHS, "by": 9}),
+    (benching.busy, {"world": WORLD, "lengths": LENGTHS}),
+    (benching.idle, {"world": WORLD, "lengths": LENGTHS}),
+    (benching.at_work, {"world": WORLD, "lengths": LENGTHS, "moment": 4}),
 ]
 
 WITH_ORDER = [(function, given) for function, given in INTERFACE if "order" in given]
+WITH_LENGTHS = [(function, given) for function, given in INTERFACE if "lengths" in given]
 
 
 def lists_within(thing):
@@ -72,6 +85,15 @@ class RefusalTest(unittest.TestCase):
                     with self.subTest(function=function, order=order, rest=rest):
                         with self.assertRaises(NoOrder):
                             function(**{**rest, "order": order})
+
+    def test_no_lengths_go_ahead_of_all_others_but_no_world(self):
+        for function, given in WITH_LENGTHS:
+            others = {**dict.fromkeys(given), "world": WORLD}
+            for lengths in NO_LENGTHS:
+                for rest in (given, others):
+                    with self.subTest(function=function, lengths=lengths, rest=rest):
+                        with self.assertRaises(NoLengths):
+                            function(**{**rest, "lengths": lengths})
 
     def test_no_order_goes_ahead_of_never(self):
         # By these lengths work 0 can not have ended first.
