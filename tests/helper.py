@@ -80,6 +80,8 @@ NO_LENGTHS = THINGS_OF_OTHER_KINDS + [
     (True, 4, 5, 6), (3, 4, 5, False),
 ] + [(3, 4, thing, 6) for thing in NO_NUMBERS + ["5", (5,), [5], -5, 10 ** 400]]
 
+NO_TEXTS = [thing for thing in THINGS_OF_OTHER_KINDS if not isinstance(thing, str)] + [(), ("",), [""], {"": 1}, b""]
+
 
 def orders_by_playing(benches, works):
     """All orders of no work, of some, and of all, found end by end, whether they can have been or not."""
@@ -226,3 +228,29 @@ def length_by(world, order, moments, work):
     """How long a work was, by the moments of all ends that were told."""
     event = max(0, work - world[0] + 1)
     return moments[order.index(work)] - (moments[event - 1] if event else 0)
+
+
+def changed_once(text, signs):
+    """All texts that come of a text if one sign is left out, put in or exchanged, or two places are exchanged."""
+    found = []
+    for place in range(len(text) + 1):
+        ahead, behind = text[:place], text[place:]
+        found += [ahead + sign + behind for sign in signs]
+        if behind:
+            found.append(ahead + behind[1:])
+            found += [ahead + sign + behind[1:] for sign in signs if sign != behind[0]]
+        found += [
+            ahead + behind[other] + behind[1:other] + behind[0] + behind[other + 1:] for other in range(1, len(behind))
+        ]
+    return found
+
+
+def changed_twice(text, signs, many, start):
+    """So many texts that come of a text if that is done twice."""
+    step = numbers(start)
+    once = changed_once(text, signs)
+    found = []
+    while len(found) < many:
+        twice = changed_once(once[(next(step) * 1000 + next(step)) % len(once)], signs)
+        found += [twice[(next(step) * 1000 + next(step)) % len(twice)] for again in range(20)]
+    return found
